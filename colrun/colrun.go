@@ -1,0 +1,49 @@
+// Package colrun: tables in columns, and plans that are run over them: see DOC.md.
+package colrun
+
+import (
+	"colrun/api"
+	"colrun/segments"
+)
+
+// Store is some tables on a disk.
+type Store struct{}
+
+// Pack writes values as a segment (P3).
+func Pack(typ int, how int, vs []api.Value) (string, api.Fault) {
+	text, err := segments.Pack(typ, how, vs)
+	return text, faultOf(err)
+}
+
+// Unpack reads a segment (P4).
+func Unpack(segment string) (int, []api.Value, api.Fault) {
+	typ, vs, err := segments.Unpack(segment)
+	return typ, vs, faultOf(err)
+}
+
+// New is a store without tables (P5).
+func New(d api.Disk) *Store { return nil }
+
+// Load lays a table on the disk (P5).
+func (s *Store) Load(t api.Table, hows []int, group int) api.Fault { return api.Fault{} }
+
+// Drop lets a table go (P6).
+func (s *Store) Drop(name string) api.Fault { return api.Fault{} }
+
+// Tables tells the tables' names (P6).
+func (s *Store) Tables() []string { return nil }
+
+// Used tells how many pages are in use (P6).
+func (s *Store) Used() int { return 0 }
+
+// Scan tells a table's rows (P7).
+func (s *Store) Scan(name string) ([]api.Row, api.Fault) { return nil, api.Fault{} }
+
+// Spoil turns a stored byte of a page (P8).
+func (s *Store) Spoil(page int, at int, by int) bool { return false }
+
+// Check tells a plan's schema (P9).
+func (s *Store) Check(p api.Plan) ([]int, api.Fault) { return nil, api.Fault{} }
+
+// Run works a plan (P10).
+func (s *Store) Run(p api.Plan, o api.Options) ([]api.Row, api.Fault) { return nil, api.Fault{} }

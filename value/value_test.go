@@ -1,0 +1,56 @@
+package value_test
+
+import (
+	"math"
+	"strings"
+	"testing"
+
+	"colrun/api"
+	"colrun/value"
+)
+
+func TestIsType(t *testing.T) {
+	for typ, want := range map[int]bool{math.MinInt: false, -1: false, 0: false, 1: true, 2: true, 3: true, 4: false, 257: false, math.MaxInt: false} {
+		if value.IsType(typ) != want {
+			t.Errorf("IsType(%d) = %v", typ, !want)
+		}
+	}
+}
+
+func TestIsOf(t *testing.T) {
+	every := []int{api.Int, api.Bool, api.Text}
+	for _, c := range []struct {
+		v     api.Value
+		types []int
+	}{
+		{api.Value{}, every},
+		{api.Value{N: 1}, nil},
+		{api.Value{S: "a"}, nil},
+		{api.Value{Kind: api.Int, N: math.MinInt64}, []int{api.Int}},
+		{api.Value{Kind: api.Int, S: "a"}, nil},
+		{api.Value{Kind: api.Bool}, []int{api.Bool}},
+		{api.Value{Kind: api.Bool, N: 1}, []int{api.Bool}},
+		{api.Value{Kind: api.Bool, N: 2}, nil},
+		{api.Value{Kind: api.Bool, N: -1}, nil},
+		{api.Value{Kind: api.Bool, N: 1, S: "a"}, nil},
+		{api.Value{Kind: api.Text}, []int{api.Text}},
+		{api.Value{Kind: api.Text, S: strings.Repeat("x", 40)}, []int{api.Text}},
+		{api.Value{Kind: api.Text, S: strings.Repeat("x", 41)}, nil},
+		{api.Value{Kind: api.Text, N: 1}, nil},
+		{api.Value{Kind: 4}, nil},
+		{api.Value{Kind: -1}, nil},
+	} {
+		for _, typ := range every {
+			want := false
+			for _, x := range c.types {
+				want = want || x == typ
+			}
+			if value.IsOf(c.v, typ) != want {
+				t.Errorf("IsOf(%+v, %d) = %v", c.v, typ, !want)
+			}
+		}
+	}
+	if value.IsOf(api.Value{Kind: 4}, 4) {
+		t.Error("a Kind that is none is of no type")
+	}
+}
