@@ -3,11 +3,16 @@ package colrun
 
 import (
 	"colrun/api"
+	"colrun/disk"
 	"colrun/segments"
+	"colrun/tables"
 )
 
 // Store is some tables on a disk.
-type Store struct{}
+type Store struct {
+	disk   *disk.Disk
+	tables *tables.Set
+}
 
 // Pack writes values as a segment (P3).
 func Pack(typ int, how int, vs []api.Value) (string, api.Fault) {
@@ -22,25 +27,41 @@ func Unpack(segment string) (int, []api.Value, api.Fault) {
 }
 
 // New is a store without tables (P5).
-func New(d api.Disk) *Store { return nil }
+func New(d api.Disk) *Store {
+	pages := disk.New(d)
+	return &Store{disk: pages, tables: tables.New(pages)}
+}
 
 // Load lays a table on the disk (P5).
-func (s *Store) Load(t api.Table, hows []int, group int) api.Fault { return api.Fault{} }
+func (s *Store) Load(t api.Table, hows []int, group int) api.Fault {
+	return faultOf(s.tables.Load(t, hows, group))
+}
 
 // Drop lets a table go (P6).
-func (s *Store) Drop(name string) api.Fault { return api.Fault{} }
+func (s *Store) Drop(name string) api.Fault {
+	return faultOf(s.tables.Drop(name))
+}
 
 // Tables tells the tables' names (P6).
-func (s *Store) Tables() []string { return nil }
+func (s *Store) Tables() []string {
+	return s.tables.Names()
+}
 
 // Used tells how many pages are in use (P6).
-func (s *Store) Used() int { return 0 }
+func (s *Store) Used() int {
+	return s.disk.Used()
+}
 
 // Scan tells a table's rows (P7).
-func (s *Store) Scan(name string) ([]api.Row, api.Fault) { return nil, api.Fault{} }
+func (s *Store) Scan(name string) ([]api.Row, api.Fault) {
+	rows, err := s.tables.Rows(name)
+	return rows, faultOf(err)
+}
 
 // Spoil turns a stored byte of a page (P8).
-func (s *Store) Spoil(page int, at int, by int) bool { return false }
+func (s *Store) Spoil(page int, at int, by int) bool {
+	return s.disk.Spoil(page, at, by)
+}
 
 // Check tells a plan's schema (P9).
 func (s *Store) Check(p api.Plan) ([]int, api.Fault) { return nil, api.Fault{} }

@@ -4,12 +4,14 @@ import (
 	"errors"
 
 	"colrun/api"
+	"colrun/disk"
 	"colrun/segments"
+	"colrun/tables"
 )
 
-// faultOf makes the fault that a call answers of an error from below; nil is that of a call that went well.
+// faultOf makes the fault that a call answers of a chain of errors from below: each place in it is asked of the layer that knows it. nil is the fault of a call that went well.
 func faultOf(err error) api.Fault {
-	return api.Fault{Code: codeOf(err), Node: api.None, Row: api.None, Column: api.None, Page: api.None}
+	return api.Fault{Code: codeOf(err), Node: api.None, Row: api.None, Column: columnOf(err), Page: pageOf(err)}
 }
 
 func codeOf(err error) api.Errno {
@@ -20,6 +22,30 @@ func codeOf(err error) api.Errno {
 		return api.ErrDict
 	case errors.Is(err, segments.ErrForm):
 		return api.ErrForm
+	case errors.Is(err, tables.ErrTable):
+		return api.ErrTable
+	case errors.Is(err, disk.ErrQuota):
+		return api.ErrQuota
+	case errors.Is(err, disk.ErrWrite):
+		return api.ErrWrite
+	case errors.Is(err, disk.ErrPage):
+		return api.ErrPage
 	}
 	return api.ErrArg
+}
+
+func columnOf(err error) int {
+	var e *tables.Error
+	if errors.As(err, &e) {
+		return e.Column
+	}
+	return api.None
+}
+
+func pageOf(err error) int {
+	var e *disk.Error
+	if errors.As(err, &e) {
+		return e.Page
+	}
+	return api.None
 }

@@ -27,7 +27,7 @@ func (r *reader) head() (how int, n int) {
 	r.typ = r.small()
 	how = r.small()
 	n = r.small()
-	need(canBe(r.typ, how) && n <= api.MaxGroup)
+	need(CanBe(r.typ, how) && n <= api.MaxGroup)
 	return how, n
 }
 

@@ -20,7 +20,7 @@ const indexBits = 4
 
 // Pack is the segment of the values: ErrArg, ErrDict.
 func Pack(typ int, how int, vs []api.Value) (string, error) {
-	if !canBe(typ, how) || !areValues(typ, vs) {
+	if !CanBe(typ, how) || !areValues(typ, vs) {
 		return "", ErrArg
 	}
 	held := withoutNulls(vs)
@@ -52,8 +52,8 @@ func Unpack(text string) (typ int, vs []api.Value, err error) {
 	return r.typ, vs, nil
 }
 
-// canBe tells whether values of the type can be written so.
-func canBe(typ int, how int) bool {
+// CanBe tells whether values of the type can be written so.
+func CanBe(typ int, how int) bool {
 	if how == api.Packed {
 		return typ == api.Int || typ == api.Bool
 	}
