@@ -4,6 +4,7 @@ package colrun
 import (
 	"colrun/api"
 	"colrun/disk"
+	"colrun/plans"
 	"colrun/segments"
 	"colrun/tables"
 )
@@ -64,7 +65,10 @@ func (s *Store) Spoil(page int, at int, by int) bool {
 }
 
 // Check tells a plan's schema (P9).
-func (s *Store) Check(p api.Plan) ([]int, api.Fault) { return nil, api.Fault{} }
+func (s *Store) Check(p api.Plan) ([]int, api.Fault) {
+	schema, err := plans.Check(p, s.tables.Types)
+	return schema, faultOf(err)
+}
 
 // Run works a plan (P10).
 func (s *Store) Run(p api.Plan, o api.Options) ([]api.Row, api.Fault) { return nil, api.Fault{} }

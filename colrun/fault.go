@@ -5,13 +5,15 @@ import (
 
 	"colrun/api"
 	"colrun/disk"
+	"colrun/exprs"
+	"colrun/plans"
 	"colrun/segments"
 	"colrun/tables"
 )
 
 // faultOf makes the fault that a call answers of a chain of errors from below: each place in it is asked of the layer that knows it. nil is the fault of a call that went well.
 func faultOf(err error) api.Fault {
-	return api.Fault{Code: codeOf(err), Node: api.None, Row: api.None, Column: columnOf(err), Page: pageOf(err)}
+	return api.Fault{Code: codeOf(err), Node: nodeOf(err), Row: api.None, Column: columnOf(err), Page: pageOf(err)}
 }
 
 func codeOf(err error) api.Errno {
@@ -30,8 +32,18 @@ func codeOf(err error) api.Errno {
 		return api.ErrWrite
 	case errors.Is(err, disk.ErrPage):
 		return api.ErrPage
+	case errors.Is(err, plans.ErrPlan), errors.Is(err, exprs.ErrExpr):
+		return api.ErrPlan
 	}
 	return api.ErrArg
+}
+
+func nodeOf(err error) int {
+	var e *plans.Error
+	if errors.As(err, &e) {
+		return e.Node
+	}
+	return api.None
 }
 
 func columnOf(err error) int {

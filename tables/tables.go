@@ -77,6 +77,15 @@ func (s *Set) Names() []string {
 	return names
 }
 
+// Types are the types of a table's columns; false, if there is no such table.
+func (s *Set) Types(name string) ([]int, bool) {
+	i := s.find(name)
+	if i < 0 {
+		return nil, false
+	}
+	return slices.Clone(s.held[i].types), true
+}
+
 // Rows are a table's rows: ErrTable, or the disk's error.
 func (s *Set) Rows(name string) ([]api.Row, error) {
 	i := s.find(name)

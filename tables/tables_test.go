@@ -2,6 +2,7 @@ package tables_test
 
 import (
 	"errors"
+	"slices"
 	"strings"
 	"testing"
 
@@ -93,6 +94,24 @@ func TestPagesThatAreSpoiltUnnoticed(t *testing.T) {
 		if rows != nil || !errors.Is(err, disk.ErrPage) || !errors.As(err, &e) || e.Page != 2 {
 			t.Errorf("%s: %v, %v", name, rows, err)
 		}
+	}
+}
+
+// TestTypes: the types are the caller's, and there are none of a table that is not there.
+func TestTypes(t *testing.T) {
+	_, s := loaded(t, sample(3), []int{api.Plain, api.Plain}, 2)
+	for range 2 {
+		types, ok := s.Types("t")
+		if !ok || !slices.Equal(types, []int{api.Int, api.Text}) {
+			t.Fatalf("Types = %v, %v", types, ok)
+		}
+		types[0], types[1] = 9, 9
+	}
+	if types, ok := s.Types("u"); ok || types != nil {
+		t.Errorf("Types of no table = %v, %v", types, ok)
+	}
+	if rows, err := s.Rows("t"); err != nil || len(rows) != 3 {
+		t.Errorf("Rows = %v, %v", rows, err)
 	}
 }
 

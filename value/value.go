@@ -8,6 +8,14 @@ func IsType(typ int) bool {
 	return typ == api.Int || typ == api.Bool || typ == api.Text
 }
 
+// TypeAt is the type that has this number in a list of types; false, if none has.
+func TypeAt(types []int, i int) (int, bool) {
+	if i < 0 || i >= len(types) {
+		return 0, false
+	}
+	return types[i], true
+}
+
 // IsOf tells whether v is a value, and of the type typ.
 func IsOf(v api.Value, typ int) bool {
 	if v.Kind == api.Null {

@@ -17,6 +17,18 @@ func TestIsType(t *testing.T) {
 	}
 }
 
+func TestTypeAt(t *testing.T) {
+	types := []int{api.Text, api.Int, api.Bool}
+	for i, want := range map[int]int{math.MinInt: 0, -1: 0, 0: api.Text, 1: api.Int, 2: api.Bool, 3: 0, 1 << 32: 0, math.MaxInt: 0} {
+		if typ, ok := value.TypeAt(types, i); typ != want || ok != (want != 0) {
+			t.Errorf("TypeAt(%d) = %d, %v", i, typ, ok)
+		}
+	}
+	if typ, ok := value.TypeAt(nil, 0); typ != 0 || ok {
+		t.Errorf("TypeAt of no types = %d, %v", typ, ok)
+	}
+}
+
 func TestIsOf(t *testing.T) {
 	every := []int{api.Int, api.Bool, api.Text}
 	for _, c := range []struct {
