@@ -3,10 +3,12 @@ package colrun
 
 import (
 	"colrun/api"
+	"colrun/columns"
 	"colrun/disk"
 	"colrun/plans"
 	"colrun/segments"
 	"colrun/tables"
+	"colrun/work"
 )
 
 // Store is some tables on a disk.
@@ -56,7 +58,7 @@ func (s *Store) Used() int {
 // Scan tells a table's rows (P7).
 func (s *Store) Scan(name string) ([]api.Row, api.Fault) {
 	rows, err := s.tables.Rows(name)
-	return rows, faultOf(err)
+	return listOf(rows, err)
 }
 
 // Spoil turns a stored byte of a page (P8).
@@ -71,4 +73,15 @@ func (s *Store) Check(p api.Plan) ([]int, api.Fault) {
 }
 
 // Run works a plan (P10).
-func (s *Store) Run(p api.Plan, o api.Options) ([]api.Row, api.Fault) { return nil, api.Fault{} }
+func (s *Store) Run(p api.Plan, o api.Options) ([]api.Row, api.Fault) {
+	rows, err := work.Run(p, o, s.tables, s.disk)
+	return listOf(rows, err)
+}
+
+// listOf is what a call answers that tells rows: with an error no list.
+func listOf(rows columns.Rows, err error) ([]api.Row, api.Fault) {
+	if err != nil {
+		return nil, faultOf(err)
+	}
+	return rows.List(), faultOf(nil)
+}

@@ -4,8 +4,10 @@ import (
 	"errors"
 
 	"colrun/api"
+	"colrun/columns"
 	"colrun/disk"
 	"colrun/exprs"
+	"colrun/groups"
 	"colrun/plans"
 	"colrun/segments"
 	"colrun/tables"
@@ -13,7 +15,7 @@ import (
 
 // faultOf makes the fault that a call answers of a chain of errors from below: each place in it is asked of the layer that knows it. nil is the fault of a call that went well.
 func faultOf(err error) api.Fault {
-	return api.Fault{Code: codeOf(err), Node: nodeOf(err), Row: api.None, Column: columnOf(err), Page: pageOf(err)}
+	return api.Fault{Code: codeOf(err), Node: nodeOf(err), Row: rowOf(err), Column: columnOf(err), Page: pageOf(err)}
 }
 
 func codeOf(err error) api.Errno {
@@ -34,6 +36,12 @@ func codeOf(err error) api.Errno {
 		return api.ErrPage
 	case errors.Is(err, plans.ErrPlan), errors.Is(err, exprs.ErrExpr):
 		return api.ErrPlan
+	case errors.Is(err, exprs.ErrDivide):
+		return api.ErrDivide
+	case errors.Is(err, exprs.ErrOverflow), errors.Is(err, groups.ErrOverflow):
+		return api.ErrOverflow
+	case errors.Is(err, columns.ErrMany):
+		return api.ErrMany
 	}
 	return api.ErrArg
 }
@@ -46,10 +54,27 @@ func nodeOf(err error) int {
 	return api.None
 }
 
+// rowOf is the row of an expression, or the group, which is a row of what is told.
+func rowOf(err error) int {
+	var e *exprs.Error
+	var g *groups.Error
+	switch {
+	case errors.As(err, &e):
+		return e.Row
+	case errors.As(err, &g):
+		return g.Group
+	}
+	return api.None
+}
+
 func columnOf(err error) int {
 	var e *tables.Error
-	if errors.As(err, &e) {
+	var g *groups.Error
+	switch {
+	case errors.As(err, &e):
 		return e.Column
+	case errors.As(err, &g):
+		return g.Column
 	}
 	return api.None
 }

@@ -9,13 +9,13 @@ import (
 // Type is the type of an expression's value, on rows whose columns have these types: ErrExpr, with the part.
 func Type(parts []api.Part, columns []int) (int, error) {
 	if len(parts) < 1 || len(parts) > api.MaxParts {
-		return 0, &Error{Part: api.None, Why: ErrExpr}
+		return 0, &Error{Row: api.None, Part: api.None, Why: ErrExpr}
 	}
 	t := &typing{columns: columns}
 	for i, p := range parts {
 		typ, ok := t.part(p)
 		if !ok {
-			return 0, &Error{Part: i, Why: ErrExpr}
+			return 0, &Error{Row: api.None, Part: i, Why: ErrExpr}
 		}
 		t.earlier = append(t.earlier, typ)
 	}

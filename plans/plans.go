@@ -7,25 +7,36 @@ import (
 	"colrun/api"
 )
 
-// Check is the schema of a plan's last node: ErrPlan or exprs.ErrExpr, with the node. types tells the types of a table's columns, in memory that is the caller's; false, if there is no such table.
+// Check is the schema of a plan's last node: as Schemas.
 func Check(p api.Plan, types func(table string) ([]int, bool)) ([]int, error) {
+	schemas, err := Schemas(p, types)
+	if err != nil {
+		return nil, err
+	}
+	return schemas[len(schemas)-1], nil
+}
+
+// Schemas are those of a plan's nodes: ErrPlan or exprs.ErrExpr, with the node. types tells the types of a table's columns, in memory that is the caller's; false, if there is no such table.
+func Schemas(p api.Plan, types func(table string) ([]int, bool)) ([][]int, error) {
 	if len(p.Nodes) < 1 || len(p.Nodes) > api.MaxNodes {
 		return nil, &Error{Node: api.None, Err: ErrPlan}
 	}
 	c := &checking{types: types}
+	var schemas [][]int
 	for i, n := range p.Nodes {
 		schema, err := c.node(n)
 		if err != nil {
 			return nil, &Error{Node: i, Err: err}
 		}
 		c.earlier = append(c.earlier, known{schema: schema})
+		schemas = append(schemas, schema)
 	}
 	// Only here: a node that is wrong by itself goes before an earlier one that none names.
 	last := len(c.earlier) - 1
 	if i := slices.IndexFunc(c.earlier[:last], isLoose); i >= 0 {
 		return nil, &Error{Node: i, Err: ErrPlan}
 	}
-	return c.earlier[last].schema, nil
+	return schemas, nil
 }
 
 // known is what is known of a node that is right by itself.

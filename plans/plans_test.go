@@ -39,6 +39,18 @@ func TestCheck(t *testing.T) {
 	}
 }
 
+// TestSchemas: one for each node.
+func TestSchemas(t *testing.T) {
+	schemas, err := plans.Schemas(plan(scan("nt"), filter(0, api.Part{Op: api.Col}, api.Part{Op: api.IsNull}), scan("n"), api.Node{Op: api.Join, L: 1, R: 2, Keys: []api.Key{{}}}), tables)
+	want := [][]int{{api.Int, api.Text}, {api.Int, api.Text}, {api.Int}, {api.Int, api.Text, api.Int}}
+	if err != nil || !slices.EqualFunc(schemas, want, slices.Equal) {
+		t.Errorf("Schemas = %v, %v, want %v", schemas, err, want)
+	}
+	if schemas, err := plans.Schemas(plan(scan("n"), scan("n")), tables); schemas != nil || err == nil {
+		t.Errorf("Schemas of no plan = %v, %v", schemas, err)
+	}
+}
+
 // TestErrorsKnowTheirPlaces: the node is the plan's, the part the expression's; both come out of one chain.
 func TestErrorsKnowTheirPlaces(t *testing.T) {
 	number := api.Part{Op: api.Col}

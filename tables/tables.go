@@ -6,6 +6,7 @@ import (
 	"strings"
 
 	"colrun/api"
+	"colrun/columns"
 	"colrun/disk"
 	"colrun/segments"
 )
@@ -87,7 +88,7 @@ func (s *Set) Types(name string) ([]int, bool) {
 }
 
 // Rows are a table's rows: ErrTable, or the disk's error.
-func (s *Set) Rows(name string) ([]api.Row, error) {
+func (s *Set) Rows(name string) (columns.Rows, error) {
 	i := s.find(name)
 	if i < 0 {
 		return nil, ErrTable
@@ -125,19 +126,18 @@ func (s *Set) release(laid [][]int) {
 }
 
 // read reads the segments in the order in which they were written, so that the first spoilt page of that order is the one that is told.
-func (s *Set) read(t *table) ([]api.Row, error) {
-	rows := blank(t.rows, len(t.types))
+func (s *Set) read(t *table) (columns.Rows, error) {
+	rows := columns.New(len(t.types))
 	left := t.segments
-	for group := range slices.Chunk(rows, t.group) {
+	for from := 0; from < t.rows; from += t.group {
+		n := min(t.group, t.rows-from)
 		for c, typ := range t.types {
-			vs, err := s.values(left[0], typ, len(group))
+			vs, err := s.values(left[0], typ, n)
 			if err != nil {
 				return nil, err
 			}
 			left = left[1:]
-			for i, v := range vs {
-				group[i][c] = v
-			}
+			rows[c] = append(rows[c], vs...)
 		}
 	}
 	return rows, nil
@@ -155,15 +155,6 @@ func (s *Set) values(pages []int, typ int, n int) ([]api.Value, error) {
 		return nil, disk.Spoilt(pages[0])
 	}
 	return vs, nil
-}
-
-// blank is n rows of NULLs, each in memory of its own.
-func blank(n int, width int) []api.Row {
-	rows := make([]api.Row, n)
-	for i := range rows {
-		rows[i] = make(api.Row, width)
-	}
-	return rows
 }
 
 // pack is the segments of a table: for each group of rows, for each column.

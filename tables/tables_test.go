@@ -110,7 +110,7 @@ func TestTypes(t *testing.T) {
 	if types, ok := s.Types("u"); ok || types != nil {
 		t.Errorf("Types of no table = %v, %v", types, ok)
 	}
-	if rows, err := s.Rows("t"); err != nil || len(rows) != 3 {
+	if rows, err := s.Rows("t"); err != nil || rows.Len() != 3 {
 		t.Errorf("Rows = %v, %v", rows, err)
 	}
 }

@@ -1,7 +1,12 @@
-// Package value: which values and types there are.
+// Package value: which values and types there are, and how values are in order.
 package value
 
-import "colrun/api"
+import (
+	"cmp"
+	"strings"
+
+	"colrun/api"
+)
 
 // IsType tells whether typ is the type of a column.
 func IsType(typ int) bool {
@@ -22,6 +27,11 @@ func IsOf(v api.Value, typ int) bool {
 		return v == api.Value{}
 	}
 	return v.Kind == typ && isValue(v)
+}
+
+// Compare tells how two values of one type are in order, neither of them NULL: below 0, if a is below b; 0, if they are the same; else above 0. (Only numbers and truth values have an N, only texts an S.)
+func Compare(a, b api.Value) int {
+	return cmp.Or(cmp.Compare(a.N, b.N), strings.Compare(a.S, b.S))
 }
 
 func isValue(v api.Value) bool {

@@ -66,3 +66,23 @@ func TestIsOf(t *testing.T) {
 		t.Error("a Kind that is none is of no type")
 	}
 }
+
+// TestCompare: of each type, values from the least on.
+func TestCompare(t *testing.T) {
+	number := func(n int64) api.Value { return api.Value{Kind: api.Int, N: n} }
+	text := func(s string) api.Value { return api.Value{Kind: api.Text, S: s} }
+	for _, order := range [][]api.Value{
+		{number(math.MinInt64), number(-1), number(0), number(1), number(math.MaxInt64)},
+		{{Kind: api.Bool}, {Kind: api.Bool, N: 1}},
+		{text(""), text("\x00"), text("a"), text("a\x00"), text("aa"), text("b"), text("\x80"), text("\xff")},
+	} {
+		for i, a := range order {
+			for k, b := range order {
+				got := value.Compare(a, b)
+				if (got < 0) != (i < k) || (got > 0) != (i > k) {
+					t.Errorf("Compare(%+v, %+v) = %d", a, b, got)
+				}
+			}
+		}
+	}
+}
