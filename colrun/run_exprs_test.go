@@ -34,7 +34,7 @@ func TestNumbers(t *testing.T) {
 		code api.Errno
 	}{
 		{api.Add, 2, 3, 5, 0}, {api.Add, -2, 3, 1, 0}, {api.Add, 0, 0, 0, 0},
-		{api.Add, most, 0, most, 0}, {api.Add, most, 1, 0, api.ErrOverflow}, {api.Add, 1, most, 0, api.ErrOverflow}, {api.Add, most, most, 0, api.ErrOverflow}, {api.Add, most - 1, 1, most, 0},
+		{api.Add, most, 0, most, 0}, {api.Add, most, 1, 0, api.ErrOverflow}, {api.Add, 1, most, 0, api.ErrOverflow}, {api.Add, most, most, 0, api.ErrOverflow}, {api.Add, most - 1, 1, most, 0}, {api.Add, 0x5555555555555555, 0x5555555555555555, 0, api.ErrOverflow},
 		{api.Add, least, 0, least, 0}, {api.Add, least, -1, 0, api.ErrOverflow}, {api.Add, -1, least, 0, api.ErrOverflow}, {api.Add, least, least, 0, api.ErrOverflow}, {api.Add, least, most, -1, 0}, {api.Add, least + 1, -1, least, 0},
 		{api.Sub, 2, 3, -1, 0}, {api.Sub, -2, -3, 1, 0}, {api.Sub, 0, most, -most, 0}, {api.Sub, 0, least, 0, api.ErrOverflow}, {api.Sub, -1, least, most, 0}, {api.Sub, 1, least, 0, api.ErrOverflow},
 		{api.Sub, least, 1, 0, api.ErrOverflow}, {api.Sub, least, least, 0, 0}, {api.Sub, most, -1, 0, api.ErrOverflow}, {api.Sub, -2, most, 0, api.ErrOverflow}, {api.Sub, -1, most, least, 0}, {api.Sub, most, most, 0, 0},

@@ -52,6 +52,15 @@ func Unpack(text string) (typ int, vs []api.Value, err error) {
 	return r.typ, vs, nil
 }
 
+// Values are those of a segment that must be one of so many values of the type: ErrForm.
+func Values(text string, typ int, n int) ([]api.Value, error) {
+	found, vs, err := Unpack(text)
+	if err != nil || found != typ || len(vs) != n {
+		return nil, ErrForm
+	}
+	return vs, nil
+}
+
 // CanBe tells whether values of the type can be written so.
 func CanBe(typ int, how int) bool {
 	if how == api.Packed {

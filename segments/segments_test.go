@@ -41,3 +41,22 @@ func TestNoErrorOfWhatIsWell(t *testing.T) {
 		t.Errorf("Unpack: %d, %v, %v", typ, vs, err)
 	}
 }
+
+// TestValues: of the type and the number that are asked for, or none.
+func TestValues(t *testing.T) {
+	text, err := segments.Pack(api.Int, api.Runs, []api.Value{{Kind: api.Int, N: 7}, {}})
+	if err != nil {
+		t.Fatal(err)
+	}
+	if vs, err := segments.Values(text, api.Int, 2); err != nil || len(vs) != 2 || vs[0].N != 7 {
+		t.Errorf("Values: %v, %v", vs, err)
+	}
+	for _, c := range []struct {
+		text   string
+		typ, n int
+	}{{text, api.Int, 1}, {text, api.Int, 3}, {text, api.Bool, 2}, {text, api.Text, 2}, {text[:4], api.Int, 2}, {"", api.Int, 0}} {
+		if vs, err := segments.Values(c.text, c.typ, c.n); vs != nil || !errors.Is(err, segments.ErrForm) {
+			t.Errorf("Values of %+v: %v, %v", c, vs, err)
+		}
+	}
+}

@@ -24,24 +24,33 @@ type block struct {
 // write lays rows behind those of the run.
 func (s *sorting) write(r *run, rows columns.Rows) error {
 	for _, batch := range rows.Batches(s.block) {
-		b := block{rows: batch.Len()}
-		text := ""
-		for c, typ := range s.types {
-			segment, err := segments.Pack(typ, api.Plain, batch[c])
-			if err != nil {
-				return err
-			}
-			text += segment
-			b.lengths = append(b.lengths, len(segment))
-		}
-		pages, err := s.disk.Lay(text)
+		b, err := s.lay(batch)
 		if err != nil {
 			return err
 		}
-		b.pages = pages
 		r.blocks = append(r.blocks, b)
 	}
 	return nil
+}
+
+// lay writes rows as a block. Plainly, as that can be done with values of all types, however many different ones.
+func (s *sorting) lay(rows columns.Rows) (block, error) {
+	b := block{rows: rows.Len()}
+	text := ""
+	for c, typ := range s.types {
+		segment, err := segments.Pack(typ, api.Plain, rows[c])
+		if err != nil {
+			return block{}, err
+		}
+		text += segment
+		b.lengths = append(b.lengths, len(segment))
+	}
+	pages, err := s.disk.Lay(text)
+	if err != nil {
+		return block{}, err
+	}
+	b.pages = pages
+	return b, nil
 }
 
 // next goes on to the run's next row; false, if there is none.
@@ -75,8 +84,8 @@ func (s *sorting) read(b block) (columns.Rows, error) {
 		if n > len(text) {
 			return nil, disk.Spoilt(b.pages[0])
 		}
-		_, vs, err := segments.Unpack(text[:n])
-		if err != nil || len(vs) != b.rows {
+		vs, err := segments.Values(text[:n], s.types[c], b.rows)
+		if err != nil {
 			return nil, disk.Spoilt(b.pages[0])
 		}
 		rows[c] = vs

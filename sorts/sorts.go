@@ -17,10 +17,7 @@ func Sort(rows columns.Rows, types []int, keys []api.Key, budget int, d *disk.Di
 		return s.ordered(rows), nil
 	}
 	defer s.release()
-	runs, err := s.cut(rows)
-	for err == nil && len(runs) > budget {
-		runs, err = s.narrow(runs)
-	}
+	runs, err := s.fewRuns(rows)
 	if err != nil {
 		return nil, err
 	}
@@ -81,10 +78,19 @@ func inOrder(a, b api.Value, down bool) int {
 	return value.Compare(a, b)
 }
 
+// fewRuns writes the rows as runs, so few that a block of each can be held.
+func (s *sorting) fewRuns(rows columns.Rows) ([]*run, error) {
+	runs, err := s.cut(rows)
+	for err == nil && len(runs) > s.budget {
+		runs, err = s.narrow(runs)
+	}
+	return runs, err
+}
+
 // cut writes the rows as runs, each of as many as can be held to be sorted.
 func (s *sorting) cut(rows columns.Rows) ([]*run, error) {
 	count := (rows.Len() + s.budget - 1) / s.budget
-	// When the runs are merged, a block of each is held.
+	// So that a block of each run can be held when they are merged; one row, if there are too many of them.
 	s.block = min(max(s.budget/count, 1), api.MaxGroup)
 	var runs []*run
 	for _, batch := range rows.Batches(s.budget) {

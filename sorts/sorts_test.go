@@ -74,24 +74,16 @@ func TestSort(t *testing.T) {
 	}
 }
 
-// TestSortHoldsNoMoreThanItMay: a block of each run that is merged.
+// TestSortHoldsNoMoreThanItMay: a block of each run that is merged; a row of each, if runs were merged to fewer ahead of that.
 func TestSortHoldsNoMoreThanItMay(t *testing.T) {
 	for n := 3; n <= 400; n += 7 {
 		for budget := 2; budget < n; budget += 1 + budget/4 {
 			s := &sorting{types: []int{api.Int, api.Int}, keys: []api.Key{{}}, budget: budget, disk: disk.New(api.Disk{Quota: 10000})}
-			runs, err := s.cut(sample(n))
+			runs, err := s.fewRuns(sample(n))
 			if err != nil {
 				t.Fatal(err)
 			}
-			for len(runs) > budget {
-				if s.block != 1 {
-					t.Fatalf("%d rows, %d held: %d runs, blocks of %d", n, budget, len(runs), s.block)
-				}
-				if runs, err = s.narrow(runs); err != nil {
-					t.Fatal(err)
-				}
-			}
-			if s.block < 1 || s.block > api.MaxGroup || len(runs)*s.block > budget {
+			if s.block < 1 || s.block > api.MaxGroup || len(runs)*s.block > budget || n > budget*budget && s.block != 1 {
 				t.Errorf("%d rows, %d held: %d runs, blocks of %d", n, budget, len(runs), s.block)
 			}
 			s.release()
@@ -118,25 +110,26 @@ func TestSortOnABadDisk(t *testing.T) {
 // TestBlocksThatAreNone: a block whose bytes are not what was written is a spoilt page.
 func TestBlocksThatAreNone(t *testing.T) {
 	d := disk.New(api.Disk{Quota: 10})
-	s := &sorting{types: []int{api.Int, api.Int}, disk: d, block: 2}
-	for name, change := range map[string]func(b *block){
-		"one segment is too long": func(b *block) { b.lengths[1] = 1000 },
-		"one is too short":        func(b *block) { b.lengths[0]-- },
-		"others lie there":        func(b *block) { b.rows++ },
+	for name, change := range map[string]func(s *sorting, b *block){
+		"one segment is too long": func(s *sorting, b *block) { b.lengths[1] = 1000 },
+		"one is too short":        func(s *sorting, b *block) { b.lengths[0]-- },
+		"one value less":          func(s *sorting, b *block) { b.rows++ },
+		"another type":            func(s *sorting, b *block) { s.types[1] = api.Text },
 	} {
+		s := &sorting{types: []int{api.Int, api.Int}, disk: d, block: 2}
 		r := s.add(0)
 		if err := s.write(r, sample(2)); err != nil {
 			t.Fatal(err)
 		}
-		change(&r.blocks[0])
+		change(s, &r.blocks[0])
 		rows, err := s.read(r.blocks[0])
 		var e *disk.Error
 		if rows != nil || !errors.As(err, &e) || e.Page != r.blocks[0].pages[0] {
 			t.Errorf("%s: %v, %v", name, rows, err)
 		}
-	}
-	s.release()
-	if d.Used() != 0 {
-		t.Errorf("%d pages left", d.Used())
+		s.release()
+		if d.Used() != 0 {
+			t.Errorf("%s: %d pages left", name, d.Used())
+		}
 	}
 }

@@ -149,9 +149,9 @@ func (s *Set) values(pages []int, typ int, n int) ([]api.Value, error) {
 	if err != nil {
 		return nil, err
 	}
-	found, vs, err := segments.Unpack(text)
+	vs, err := segments.Values(text, typ, n)
 	// The disk may not notice several bytes of a page that are spoilt; what is no segment then, or another one's, is a spoilt page too.
-	if err != nil || found != typ || len(vs) != n {
+	if err != nil {
 		return nil, disk.Spoilt(pages[0])
 	}
 	return vs, nil
